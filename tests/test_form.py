@@ -1,0 +1,89 @@
+"""The form of the package: its files, its imports, its sizes and its interface."""
+
+import ast
+import importlib
+import unittest
+from pathlib import Path
+
+PACKAGE = Path(__file__).resolve().parent.parent / "neverleaves"
+FILES = sorted(path for path in PACKAGE.iterdir() if path.name != "__pycache__")
+
+INTERFACE = {
+    "errors": (
+        "ControlError", "InvalidExpression", "InvalidPlant", "InvalidArena", "InvalidGoal", "BadText",
+        "NoPosition", "Held", "NotHeld", "BadReply", "Lost",
+    ),
+    "expressions": ("check_expression", "check_condition", "value_of", "holds", "names_in"),
+    "texts": (
+        "write_expression", "write_condition", "read_expression", "read_condition", "write_plant", "read_plant",
+    ),
+}
+
+
+def trees():
+    for path in FILES:
+        yield path, ast.parse(path.read_text(encoding="utf-8"))
+
+
+class Form(unittest.TestCase):
+    def test_the_folder_has_plain_python_files_only(self):
+        for path in FILES:
+            self.assertRegex(path.name, r"\A[a-z_]+\.py\Z")
+
+    def test_characters_and_sizes(self):
+        for path in FILES:
+            text = path.read_text(encoding="utf-8")
+            lines = text.split("\n")
+            with self.subTest(path.name):
+                self.assertTrue(set(text) <= {chr(code) for code in range(32, 127)} | {"\n"})
+                self.assertLessEqual(len(lines), 399)
+                self.assertLessEqual(max(len(line) for line in lines), 120)
+
+    def test_the_sizes_of_functions(self):
+        for path, tree in trees():
+            for node in ast.walk(tree):
+                if isinstance(node, ast.FunctionDef):
+                    with self.subTest(path.name, function=node.name):
+                        self.assertLessEqual(node.end_lineno - node.lineno + 1, 40)
+
+    def test_no_string_has_the_sign_that_formats(self):
+        for path, tree in trees():
+            for node in ast.walk(tree):
+                if isinstance(node, ast.Constant) and isinstance(node.value, str):
+                    with self.subTest(path.name, line=node.lineno):
+                        self.assertNotIn("%", node.value)
+
+    def test_imports_name_the_file_of_the_package_that_defines_the_name(self):
+        for path, tree in trees():
+            for node in ast.walk(tree):
+                self.assertNotIsInstance(node, ast.Import, path.name)
+                if not isinstance(node, ast.ImportFrom):
+                    continue
+                with self.subTest(path.name, line=node.lineno):
+                    self.assertEqual(node.level, 0)
+                    package, name = node.module.split(".")
+                    self.assertEqual(package, "neverleaves")
+                    defined = self.defined(ast.parse((PACKAGE / (name + ".py")).read_text(encoding="utf-8")))
+                    for alias in node.names:
+                        self.assertIn(alias.name, defined)
+                        self.assertIsNone(alias.asname)
+
+    def defined(self, tree):
+        names = []
+        for node in tree.body:
+            if isinstance(node, (ast.FunctionDef, ast.ClassDef)):
+                names.append(node.name)
+            if isinstance(node, ast.Assign):
+                names.extend(target.id for target in node.targets)
+        return names
+
+    def test_the_interface_is_defined_where_it_is_listed(self):
+        for module, names in INTERFACE.items():
+            loaded = importlib.import_module("neverleaves." + module)
+            for name in names:
+                with self.subTest(module, name=name):
+                    self.assertEqual(getattr(loaded, name).__module__, "neverleaves." + module)
+
+
+if __name__ == "__main__":
+    unittest.main()
