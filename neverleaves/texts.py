@@ -3,6 +3,7 @@
 from neverleaves.errors import BadText
 from neverleaves.expressions import names_in, parts_in
 from neverleaves.parsing import read_whole
+from neverleaves.plants import names_of
 from neverleaves.words import is_integer, is_name
 
 
@@ -47,7 +48,7 @@ def write_plant(plant):
     lines = _range_lines("state", variables)
     lines.extend(_range_lines("input", inputs))
     lines.extend(_range_lines("noise", disturbances))
-    for name, step in zip(_names_of(variables), steps):
+    for name, step in zip(names_of(variables), steps):
         lines.append("next " + name + " " + _written(step))
     lines.append("allow " + _written(allowed))
     return "".join([line + "\n" for line in lines])
@@ -58,11 +59,6 @@ def _range_lines(kind, ranges):
     return [f"{kind} {name} {low} {high}" for name, low, high in ranges]
 
 
-def _names_of(ranges):
-    """The names of variables, inputs or disturbances."""
-    return tuple([name for name, low, high in ranges])
-
-
 def read_plant(text):
     """The valid plant of a text. Raises BadText."""
     lines = text.split("\n")
@@ -71,12 +67,12 @@ def read_plant(text):
     variables, at = _read_ranges(lines, 0, "state", ())
     if variables == ():
         raise BadText(1, 1)
-    inputs, at = _read_ranges(lines, at, "input", _names_of(variables))
-    known = _names_of(variables + inputs)
+    inputs, at = _read_ranges(lines, at, "input", names_of(variables))
+    known = names_of(variables + inputs)
     disturbances, at = _read_ranges(lines, at, "noise", known)
-    named = known + _names_of(disturbances)
+    named = known + names_of(disturbances)
     steps = []
-    for name in _names_of(variables):
+    for name in names_of(variables):
         steps.append(_read_behind("next " + name + " ", lines, at, "expression", named))
         at += 1
     allowed = _read_behind("allow ", lines, at, "condition", known)
@@ -90,7 +86,7 @@ def _read_ranges(lines, at, kind, taken):
     ranges = ()
     while lines[at].startswith(kind + " "):
         words = lines[at].split(" ")
-        if not _is_range(words, taken + _names_of(ranges)):
+        if not _is_range(words, taken + names_of(ranges)):
             raise BadText(at + 1, 1)
         ranges = ranges + ((words[1], int(words[2]), int(words[3])),)
         at += 1

@@ -2,12 +2,21 @@
 
 import unittest
 
+from neverleaves.arenas import check_arena, check_goal
+from neverleaves.compiling import arena_of, gains_of, position_of, positions_where
 from neverleaves.expressions import check_condition, check_expression, holds, names_in, value_of
+from neverleaves.judging import judge
+from neverleaves.papertexts import read_arena, read_paper, write_arena, write_paper
+from neverleaves.plants import check_plant, inputs_of, next_state, replies_of, states_of
+from neverleaves.plays import follow, play_on
+from neverleaves.solving import owners, told_paper
+from neverleaves.strategies import bad_ring, home_steps, least_bad_row, strategy_credit, strategy_of
 from neverleaves.texts import (
     read_condition, read_expression, read_plant, write_condition, write_expression, write_plant,
 )
-from tests.samples import WRITTEN_CONDITIONS, WRITTEN_EXPRESSIONS
-from tests.test_plant_texts import PLANTS
+from tests.samples import WRITTEN_CONDITIONS, WRITTEN_EXPRESSIONS, X
+from tests.some_arenas import EMPTY_GOALS, some_games
+from tests.test_plant_texts import FULL, PLANTS
 
 
 class Values(dict):
@@ -21,10 +30,19 @@ class Values(dict):
 
 class Arguments(unittest.TestCase):
     def unchanged(self, function, *arguments):
+        """The arguments stay as they were, and the result, which is returned, is the same again."""
         before = repr(arguments)
         first = function(*arguments)
         self.assertEqual(repr(arguments), before)
         self.assertEqual(repr(function(*arguments)), repr(first))
+        return first
+
+    def tuples(self, function, *arguments):
+        """The same, and the result is a tuple all through."""
+        first = self.unchanged(function, *arguments)
+        self.assertIsInstance(first, tuple)
+        hash(first)
+        return first
 
     def test_expressions(self):
         for expression, text in WRITTEN_EXPRESSIONS:
@@ -48,6 +66,58 @@ class Arguments(unittest.TestCase):
         for plant, text in PLANTS:
             self.unchanged(write_plant, plant)
             self.unchanged(read_plant, text)
+
+    def test_plants_and_their_steps(self):
+        self.unchanged(check_plant, FULL)
+        self.tuples(states_of, FULL)
+        self.tuples(replies_of, FULL)
+        for state in ((0, -5), (1, 0), (9, 5)):
+            for move in self.tuples(inputs_of, FULL, state):
+                for reply in replies_of(FULL):
+                    self.unchanged(next_state, FULL, state, move, reply)
+        self.tuples(next_state, FULL, (0, 0), (0, 0), (0, -3))
+        self.tuples(arena_of, FULL)
+        self.tuples(positions_where, FULL, ("less", X, ("number", 3)))
+        self.tuples(gains_of, FULL, X)
+        self.unchanged(position_of, FULL, (3, 2))
+
+    def test_arenas_and_goals(self):
+        games = list(some_games(2, 60)) + [((), goal) for goal in EMPTY_GOALS]
+        for arena, goal in games:
+            self.unchanged(check_arena, arena)
+            self.unchanged(check_goal, arena, goal)
+            paper = self.tuples(told_paper, arena, goal)
+            self.tuples(owners, arena, goal)
+            self.assertIs(self.unchanged(judge, arena, goal, paper), True)
+            strategy = self.tuples(strategy_of, paper)
+            self.assertEqual(self.tuples(read_arena, self.unchanged(write_arena, arena)), arena)
+            self.assertEqual(self.tuples(read_paper, self.unchanged(write_paper, paper)), paper)
+            for start in range(len(arena)):
+                self.strategies(arena, goal, strategy, start)
+                for kind in (list, tuple):
+                    self.tuples(follow, arena, paper, start, kind((3, -1, 0, 5, 10 ** 30)))
+                    self.tuples(play_on, arena, start, kind((0, 1, 0, 5)), kind((0, 1, 1, 0)))
+
+    def strategies(self, arena, goal, strategy, start):
+        if goal[0] in ("stay", "come"):
+            row = self.unchanged(least_bad_row, arena, goal[1], strategy, start)
+            self.assertIsInstance(row, (tuple, None.__class__))
+            self.unchanged(home_steps, arena, goal[1], strategy, start)
+        if goal[0] == "colours":
+            hash(self.unchanged(bad_ring, arena, goal[1], strategy, start))
+        if goal[0] == "tank":
+            self.unchanged(strategy_credit, arena, goal[1], strategy, start)
+
+    def test_lists_that_were_passed_may_change_later(self):
+        arena = (((0, 1),), ((0,),))
+        options, replies, picks = [0, 0], [1, 0], [1, 0]
+        play = play_on(arena, 0, options, replies)
+        other = follow(arena, told_paper(arena, ("stay", (0, 1))), 0, picks)
+        for row in (options, replies, picks):
+            row.append(7)
+            row[0] = 9
+        self.assertEqual(play, (0, 1, 0))
+        self.assertEqual(other, (0, 1, 0))
 
     def test_later_changes_to_the_values_count_only_later(self):
         values = {"x": 3}

@@ -2,21 +2,43 @@
 
 import ast
 import importlib
+import inspect
 import unittest
 from pathlib import Path
 
 PACKAGE = Path(__file__).resolve().parent.parent / "neverleaves"
 FILES = sorted(path for path in PACKAGE.iterdir() if path.name != "__pycache__")
 
+ERRORS = (
+    "ControlError", "InvalidExpression", "InvalidPlant", "InvalidArena", "InvalidGoal", "BadText",
+    "NoPosition", "Held", "NotHeld", "BadReply", "Lost",
+)
 INTERFACE = {
-    "errors": (
-        "ControlError", "InvalidExpression", "InvalidPlant", "InvalidArena", "InvalidGoal", "BadText",
-        "NoPosition", "Held", "NotHeld", "BadReply", "Lost",
-    ),
-    "expressions": ("check_expression", "check_condition", "value_of", "holds", "names_in"),
-    "texts": (
-        "write_expression", "write_condition", "read_expression", "read_condition", "write_plant", "read_plant",
-    ),
+    "expressions": {
+        "check_expression": "expression", "check_condition": "condition", "value_of": "expression values",
+        "holds": "condition values", "names_in": "expression",
+    },
+    "texts": {
+        "write_expression": "expression", "write_condition": "condition", "read_expression": "text",
+        "read_condition": "text", "write_plant": "plant", "read_plant": "text",
+    },
+    "plants": {
+        "check_plant": "plant", "states_of": "plant", "inputs_of": "plant state", "replies_of": "plant",
+        "next_state": "plant state move reply",
+    },
+    "compiling": {
+        "arena_of": "plant", "positions_where": "plant condition", "gains_of": "plant expression",
+        "position_of": "plant state",
+    },
+    "arenas": {"check_arena": "arena", "check_goal": "arena goal"},
+    "plays": {"play_on": "arena start options replies", "follow": "arena paper start picks"},
+    "solving": {"told_paper": "arena goal", "owners": "arena goal"},
+    "judging": {"judge": "arena goal paper"},
+    "papertexts": {"write_arena": "arena", "write_paper": "paper", "read_arena": "text", "read_paper": "text"},
+    "strategies": {
+        "strategy_of": "paper", "least_bad_row": "arena keep strategy start", "home_steps": "arena home strategy start",
+        "bad_ring": "arena colours strategy start", "strategy_credit": "arena gains strategy start",
+    },
 }
 
 
@@ -78,11 +100,18 @@ class Form(unittest.TestCase):
         return names
 
     def test_the_interface_is_defined_where_it_is_listed(self):
-        for module, names in INTERFACE.items():
+        for module, functions in INTERFACE.items():
             loaded = importlib.import_module("neverleaves." + module)
-            for name in names:
+            for name, arguments in functions.items():
                 with self.subTest(module, name=name):
-                    self.assertEqual(getattr(loaded, name).__module__, "neverleaves." + module)
+                    function = getattr(loaded, name)
+                    self.assertEqual(function.__module__, "neverleaves." + module)
+                    self.assertEqual(list(inspect.signature(function).parameters), arguments.split())
+
+    def test_the_errors_are_defined_where_they_are_listed(self):
+        loaded = importlib.import_module("neverleaves.errors")
+        for name in ERRORS:
+            self.assertEqual(getattr(loaded, name).__module__, "neverleaves.errors")
 
 
 if __name__ == "__main__":
