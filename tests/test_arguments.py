@@ -3,12 +3,16 @@
 import unittest
 
 from neverleaves.arenas import check_arena, check_goal
+from neverleaves.beats import least_beats
 from neverleaves.compiling import arena_of, gains_of, position_of, positions_where
+from neverleaves.costs import least_costs
 from neverleaves.expressions import check_condition, check_expression, holds, names_in, value_of
 from neverleaves.judging import judge
+from neverleaves.means import means
 from neverleaves.papertexts import read_arena, read_paper, write_arena, write_paper
 from neverleaves.plants import check_plant, inputs_of, next_state, replies_of, states_of
 from neverleaves.plays import follow, play_on
+from neverleaves.shields import shield
 from neverleaves.solving import owners, told_paper
 from neverleaves.strategies import bad_ring, home_steps, least_bad_row, strategy_credit, strategy_of
 from neverleaves.texts import (
@@ -107,6 +111,17 @@ class Arguments(unittest.TestCase):
             hash(self.unchanged(bad_ring, arena, goal[1], strategy, start))
         if goal[0] == "tank":
             self.unchanged(strategy_credit, arena, goal[1], strategy, start)
+
+    def test_shields_beats_costs_and_means(self):
+        games = list(some_games(3, 60)) + [((), goal) for goal in EMPTY_GOALS]
+        for arena, goal in games:
+            if goal[0] in ("stay", "come"):
+                self.assertEqual(len(self.tuples(shield, arena, goal[1])), len(arena))
+                self.assertEqual(len(self.tuples(least_beats, arena, goal[1])), len(arena))
+                costs = tuple(tuple(7 * index % 5 for index in range(len(options))) for options in arena)
+                self.assertEqual(len(self.tuples(least_costs, arena, goal[1], costs)), len(arena))
+            if goal[0] == "tank":
+                self.assertEqual(len(self.tuples(means, arena, goal[1])), len(arena))
 
     def test_lists_that_were_passed_may_change_later(self):
         arena = (((0, 1),), ((0,),))

@@ -39,6 +39,10 @@ INTERFACE = {
         "strategy_of": "paper", "least_bad_row": "arena keep strategy start", "home_steps": "arena home strategy start",
         "bad_ring": "arena colours strategy start", "strategy_credit": "arena gains strategy start",
     },
+    "shields": {"shield": "arena keep"},
+    "beats": {"least_beats": "arena home"},
+    "costs": {"least_costs": "arena home costs"},
+    "means": {"means": "arena gains"},
 }
 
 
