@@ -6,15 +6,19 @@ from neverleaves.arenas import check_arena, check_goal
 from neverleaves.beats import least_beats
 from neverleaves.compiling import arena_of, gains_of, position_of, positions_where
 from neverleaves.costs import least_costs
+from neverleaves.delays import delayed_arena
 from neverleaves.expressions import check_condition, check_expression, holds, names_in, value_of
 from neverleaves.judging import judge
+from neverleaves.loops import Loop, replayed
 from neverleaves.means import means
 from neverleaves.papertexts import read_arena, read_paper, write_arena, write_paper
 from neverleaves.plants import check_plant, inputs_of, next_state, replies_of, states_of
 from neverleaves.plays import follow, play_on
+from neverleaves.readings import can_know, known_arena
 from neverleaves.shields import shield
 from neverleaves.solving import owners, told_paper
 from neverleaves.strategies import bad_ring, home_steps, least_bad_row, strategy_credit, strategy_of
+from neverleaves.tables import run, table_of
 from neverleaves.texts import (
     read_condition, read_expression, read_plant, write_condition, write_expression, write_plant,
 )
@@ -122,6 +126,53 @@ class Arguments(unittest.TestCase):
                 self.assertEqual(len(self.tuples(least_costs, arena, goal[1], costs)), len(arena))
             if goal[0] == "tank":
                 self.assertEqual(len(self.tuples(means, arena, goal[1])), len(arena))
+
+    def test_delays_and_readings(self):
+        games = list(some_games(4, 60, 5)) + [((), ("stay", ()))]
+        for arena, goal in games:
+            if goal[0] != "stay":
+                continue
+            readings = tuple(at % 2 for at in range(len(arena)))
+            for starts in ((), tuple(range(len(arena))), tuple(range(0, len(arena), 2))):
+                self.tuples(known_arena, arena, readings, starts)
+                self.assertIsInstance(self.unchanged(can_know, arena, goal[1], readings, starts), bool)
+            for delay in (0, 1, 2):
+                self.tuples(delayed_arena, arena, delay)
+
+    def test_tables_and_runs(self):
+        arena = arena_of(FULL)
+        table = self.tuples(table_of, FULL, tuple(0 if options else -1 for options in arena))
+        for kind in (list, tuple):
+            for state in states_of(FULL)[::7]:
+                self.tuples(run, FULL, table, state, kind(replies_of(FULL)[:9]))
+        replies = [(0, -3), (1, -3)]
+        states = run(FULL, table, (3, 0), replies)
+        before = repr(states)
+        replies[0] = (2, -7)
+        self.assertEqual(repr(states), before)
+
+    def test_loops(self):
+        for arena, goal in some_games(5, 60):
+            if goal[0] != "stay" or "controller" not in owners(arena, goal):
+                continue
+            start = owners(arena, goal).index("controller")
+            before = repr((arena, goal))
+            option = told_paper(arena, goal)[start][1]
+            deeds = [("step", arena[start][option][0]), ("move", start), ("pick", option, arena[start][option][-1]), ("hold",),
+                     ("change", 0, arena[0]), ("keep", goal[1]), ("resume",)]
+            loop = Loop(arena, goal[1], start)
+            for deed in deeds:
+                told = repr(deed)
+                loop.do(deed)
+                self.assertEqual(repr(deed), told)
+                hash((loop.arena(), loop.keep(), loop.paper(), loop.journal()))
+            for kind in (list, tuple):
+                journal = kind(deeds)
+                again = replayed(arena, goal[1], start, journal)
+                self.assertEqual(journal, kind(deeds))
+                self.assertIsInstance(again.journal(), tuple)
+                self.assertEqual(again.journal(), loop.journal())
+            self.assertEqual(repr((arena, goal)), before)
 
     def test_lists_that_were_passed_may_change_later(self):
         arena = (((0, 1),), ((0,),))

@@ -43,6 +43,14 @@ INTERFACE = {
     "beats": {"least_beats": "arena home"},
     "costs": {"least_costs": "arena home costs"},
     "means": {"means": "arena gains"},
+    "delays": {"delayed_arena": "arena delay"},
+    "tables": {"table_of": "plant strategy", "run": "plant table state replies"},
+    "readings": {"known_arena": "arena readings starts", "can_know": "arena keep readings starts"},
+    "loops": {"Loop": "arena keep start", "replayed": "arena keep start journal"},
+}
+LOOP = {
+    "do": "self deed", "position": "self", "is_held": "self", "arena": "self", "keep": "self", "paper": "self",
+    "journal": "self",
 }
 
 
@@ -111,6 +119,12 @@ class Form(unittest.TestCase):
                     function = getattr(loaded, name)
                     self.assertEqual(function.__module__, "neverleaves." + module)
                     self.assertEqual(list(inspect.signature(function).parameters), arguments.split())
+
+    def test_the_methods_are_defined_in_their_class(self):
+        loop = importlib.import_module("neverleaves.loops").Loop
+        self.assertEqual(loop.__bases__, (object,))
+        for name, arguments in LOOP.items():
+            self.assertEqual(list(inspect.signature(vars(loop)[name]).parameters), arguments.split())
 
     def test_the_errors_are_defined_where_they_are_listed(self):
         loaded = importlib.import_module("neverleaves.errors")
