@@ -1,8 +1,9 @@
 """Least beats: how few steps there are at most from home to home.
 
 A beat k is kept with some of the home positions alone: from each of them the controller can come
-to one of them again with at most k other positions between. The fewer such positions there are,
-the longer are the ways, but the longest way from one of them may become shorter.
+to one of them again with at most k other positions between. So those from which this takes longest
+are left out, again and again: the ways of the others do not become shorter, but the longest way
+that is left may be shorter than before.
 """
 
 from neverleaves.forcing import CONTROLLER, steps_to

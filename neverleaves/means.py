@@ -1,8 +1,8 @@
 """Means: the gain for each step that the controller can see to in the long run.
 
 A mean is a fraction whose lower part is at most the number n of positions. Two such fractions
-are more than `1 / (n * n)` apart, so a mean is found between two multiples of this that follow
-each other: each round halves the range of multiples in which the mean of each position lies.
+are at least `1 / (n * n)` apart, so it is enough to know between which two multiples of this a mean
+lies: each round halves the range of multiples in which the mean of each position lies.
 """
 
 from neverleaves.shields import shield
@@ -29,7 +29,8 @@ def _lows(options, gains):
         width = width * 2
     while width > 1:
         width = width // 2
-        for at in _reaching(options, gains, lows, width):
+        reached = _reaching(options, gains, lows, width)
+        for at in reached:
             lows[at] += width
     return lows
 

@@ -1,6 +1,7 @@
 """Point [41], with point [18]: the least beat of coming home again and again."""
 
 import itertools
+import random
 import unittest
 
 from neverleaves.beats import least_beats
@@ -75,6 +76,16 @@ class Beats(unittest.TestCase):
         arena = (((1,), (2,)), ((4,),), ((3,),), ((5,),), ((4,),), ((2,),))
         self.tells(arena, (2, 4), (2, 1, 2, 2, 0, 2))
 
+    def test_a_near_home_with_a_long_ring_and_a_far_one_with_a_short_ring(self):
+        # From 4 it is one step to home 0 on a ring of three, and three steps to home 3, which need not be left.
+        arena = (((1,),), ((2,),), ((0,),), ((3,),), ((0,), (5,)), ((6,),), ((3,),))
+        self.tells(arena, (0, 3), (2, 2, 2, 0, 2, 2, 1))
+        # The same with a longer way to home 3, a shorter ring, and without the nearer home.
+        arena = (((1,),), ((2,),), ((0,),), ((3,),), ((0,), (5,)), ((6,),), ((7,),), ((3,),))
+        self.tells(arena, (0, 3), (2, 2, 2, 0, 2, 3, 2, 1))
+        self.tells(arena, (0, 1, 3), (1, 1, 1, 0, 1, 3, 2, 1))
+        self.tells(arena, (3,), (None, None, None, 0, 4, 3, 2, 1))
+
     def test_homes_with_rings_of_their_own(self):
         rows, homes, told = [], [], []
         for many in range(1, 15):
@@ -131,6 +142,18 @@ class Beats(unittest.TestCase):
                 for beat in beats:
                     counts[beat] = counts.get(beat, 0) + 1
         self.assertTrue({None, 0, 1, 2, 3, 4} <= set(counts))
+
+    def test_rows_with_branches_against_a_search(self):
+        chance = random.Random(76)
+        for _ in range(500):
+            many = chance.randint(4, 10)
+            arena = arena_with([
+                [[chance.choice((at + 1, at + 1, chance.randrange(many))) % many for _ in range(chance.choice((1, 1, 2)))]
+                 for _ in range(chance.choice((1, 1, 2, 3)))]
+                for at in range(many)
+            ])
+            home = tuple(sorted(chance.sample(range(many), chance.randint(1, 4))))
+            self.assertEqual(least_beats(arena, home), searches.least_beats(arena, home), (arena, home))
 
     def test_all_small_arenas(self):
         option = [(-1,), (0,), (1,), (2,), (0, 1), (1, 2), (0, 1, 2)]
